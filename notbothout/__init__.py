@@ -1,0 +1,1 @@
+"""Rules of two sides, kept by hands that see only their own."""
