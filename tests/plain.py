@@ -121,3 +121,69 @@ def great_plans(many, seed):
 def great_side(tops, dice):
     thing = dice.randrange(len(tops))
     return (thing, dice.choice(("from", "to")), dice.randrange(tops[thing] + 1))
+
+
+def crowded_plans(many, seed):
+    """So many plans of twelve things with tops 0 and 1 and forty rules; a given standing is good in every other one."""
+    dice = random.Random(seed)
+    for k in range(many):
+        tops = tuple(1 if dice.randrange(6) else 0 for t in range(12))
+        hidden = tuple(dice.randrange(top + 1) for top in tops)
+        sides = sides_of(tops)
+        rules = []
+        while len(rules) < 40:
+            one, two = dice.choice(sides), dice.choice(sides)
+            if k % 2 == 1 or plainly_in(one, hidden) or plainly_in(two, hidden):
+                rules.append((one, two))
+        yield Plan(tops, tuple(rules))
+
+
+def stretched_side(side, by):
+    """The side with each place made a row of so many places."""
+    thing, word, place = side
+    return (thing, word, place * by if word == "from" else place * by + by - 1)
+
+
+def stretched(plan, by):
+    """The plan with each place made a row of so many places: what is good stays so, row by row."""
+    tops = tuple(top * by + by - 1 for top in plan.tops)
+    return Plan(tops, tuple((stretched_side(a, by), stretched_side(b, by)) for a, b in plan.rules))
+
+
+def stretched_rows(rows, by):
+    return tuple((low * by, high * by + by - 1) for low, high in rows)
+
+
+def plainly_follows(plan, want):
+    """The words of [8], by a search over all sides."""
+    found, fresh = set(want), list(want)
+    while fresh:
+        side = fresh.pop()
+        for other in sides_of(plan.tops):
+            if other not in found and plainly_leads(plan, side, other):
+                found.add(other)
+                fresh.append(other)
+    lows = [max([p for t, w, p in found if (t, w) == (thing, "from")], default=0) for thing in range(len(plan))]
+    highs = [
+        min([p for t, w, p in found if (t, w) == (thing, "to")], default=top) for thing, top in enumerate(plan.tops)
+    ]
+    return tuple(zip(lows, highs))
+
+
+def plainly_other(plan, side):
+    """The side whose places are just all others; None where there is none."""
+    rest = set(range(plan.tops[side[0]] + 1)) - places_in(plan, side)
+    found = [other for other in sides_of(plan.tops) if other[0] == side[0] and places_in(plan, other) == rest]
+    return found[0] if found else None
+
+
+def plainly_shows(plan, want, paper):
+    """The words of [9], of a paper whose parts are tuples of sides."""
+    if paper[0] == "barred":
+        chain = paper[1]
+        barred = chain and any(plainly_bars(plan, chain[-1], side) for side in want)
+        return bool(barred and chain[0] in want and plainly_chain(plan, chain))
+    one, two = paper[1:]
+    if not (plainly_chain(plan, one) and plainly_chain(plan, two)):
+        return False
+    return one[-1] == plainly_other(plan, one[0]) and two[0] == one[-1] and two[-1] == one[0]
