@@ -187,3 +187,31 @@ def plainly_shows(plan, want, paper):
     if not (plainly_chain(plan, one) and plainly_chain(plan, two)):
         return False
     return one[-1] == plainly_other(plan, one[0]) and two[0] == one[-1] and two[-1] == one[0]
+
+
+def is_plain(told):
+    """Whether it is tuples, whole numbers, texts, truths and None alone, just of these kinds."""
+    if type(told) is tuple:
+        return all(is_plain(part) for part in told)
+    return told is None or type(told) in (int, str, bool)
+
+
+def otherwise(thing, dice):
+    """The nested tuple with something otherwise at any place and depth."""
+    odd = anything()
+    yield from (list(thing), (thing,), thing + thing[:1], thing + (dice.choice(odd),), thing[::-1], (), None)
+    for at, part in enumerate(thing):
+        ahead, behind = thing[:at], thing[at + 1:]
+        for swap in [(), (part, part), (dice.choice(odd),), ((),), (None,)]:
+            yield ahead + swap + behind
+        others = otherwise(part, dice) if isinstance(part, tuple) else otherwise_part(part, dice)
+        for other in others:
+            yield ahead + (other,) + behind
+
+
+def otherwise_part(part, dice):
+    """Others in the place of a text or a whole number; truths in the place of 0 and 1."""
+    if isinstance(part, str):
+        return [part + " ", part[:-1], part.upper(), part.encode(), "from" if part == "to" else "to", (part,)]
+    truths = [bool(part)] if part in (0, 1) else []
+    return [part + 1, part - 1, -part - 1, str(part), None, (part,), [part], part + 10 ** 59, *truths]
