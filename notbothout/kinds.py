@@ -12,6 +12,11 @@ def is_whole(thing):
     return isinstance(thing, int) and not isinstance(thing, bool)
 
 
+def are_wholes(thing, many):
+    """Whether it is a tuple of so many whole numbers."""
+    return isinstance(thing, tuple) and len(thing) == many and all([is_whole(part) for part in thing])
+
+
 def is_place(top, thing):
     """Whether it is a whole number from 0 to the top."""
     return is_whole(thing) and 0 <= thing <= top

@@ -10,15 +10,13 @@ from notbothout.plans import Plan
 from notbothout.ways import steps, walked
 from tests.plain import good_ones, is_plain, small_plans, stretched
 from tests.walks import (
-    THIRTY, drawn_pairs, good_set, great_pairs, mirrored, nearer, plain_needs, plain_steps, plainly_ring, reach,
+    THIRTY, TIED, drawn_pairs, good_set, great_pairs, mirrored, nearer, plain_needs, plain_steps, plainly_ring, reach,
     rooms_of, row_plan, turns_plan,
 )
 
 GREAT = 10 ** 29
 # Thing 0 beyond 1 waits for thing 1 at 3; thing 1 beyond 1 waits for thing 0 at 1.
 PLAN = Plan((4, 5), (((0, "to", 1), (1, "from", 3)), ((1, "to", 1), (0, "from", 1))))
-# Each of two things leaves its place only when the other one has left its own.
-TIED = Plan((1, 1), (((0, "to", 0), (1, "from", 1)), ((1, "to", 0), (0, "from", 1))))
 
 
 def small_pairs(many, seed):

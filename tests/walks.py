@@ -7,6 +7,10 @@ from notbothout.plans import Plan
 from tests.plain import good_ones, plainly_in, sides_of
 
 THIRTY = 10 ** 30 - 1
+# Each of two things leaves its place only when the other one has left its own.
+TIED = Plan((1, 1), (((0, "to", 0), (1, "from", 1)), ((1, "to", 0), (0, "from", 1))))
+# Thing 0 beyond 1 waits for thing 1 at 3; thing 1 beyond 3 waits for thing 0 at 2.
+CROSSED = Plan((4, 5), (((0, "to", 1), (1, "from", 3)), ((1, "to", 3), (0, "from", 2))))
 
 
 def good_set(plan):
@@ -122,7 +126,7 @@ def fewest_waves(good, start):
 
 
 def early_waves(good, one, other):
-    """The standings ahead of all waves and behind each, where each step towards the other is done as early as can be."""
+    """The standings ahead of all waves and behind each, each step towards the other being done as early as can be."""
     row = [one]
     while row[-1] != other:
         here = row[-1]
@@ -157,9 +161,41 @@ def drawn_pairs(many, seed, most_rules=9):
         yield Plan(tops, tuple(rule for rule in rules if rule is not None)[:most_rules]), one, other
 
 
+def waiting_pairs(many, seed):
+    """So many (plan, one, other) of longer lines, between which a drawn order of steps leads, with many that wait."""
+    dice = random.Random(seed)
+    for k in range(many):
+        tops = tuple(dice.randrange(2, 7) for t in range(dice.randrange(2, 4)))
+        one = tuple(dice.choice((0, top)) for top in tops)
+        other = tuple(top - place for top, place in zip(tops, one))
+        order = [t for t, top in enumerate(tops) for step in range(top)]
+        dice.shuffle(order)
+        here, steps = list(one), []
+        for thing in order:
+            steps.append((thing, here[thing], track(here[thing], other[thing])[1]))
+            here[thing] = steps[-1][2]
+        rules = []
+        for r in range(dice.randrange(2, 12)):
+            (j, start, come), (i, stop, end) = [steps[at] for at in sorted(dice.sample(range(len(steps)), 2))]
+            words = "to" if end > stop else "from", "from" if come > start else "to"
+            rules += [((i, words[0], stop), (j, words[1], come))] if i != j else []
+        yield Plan(tops, tuple(rules)), one, other
+
+
+def free_pairs(many, seed):
+    """(plan, one, other, all good standings), of small plans, where a way leads from one to the other."""
+    for plan, one, other in [*drawn_pairs(many, seed), *waiting_pairs(many // 4, seed)]:
+        good = good_set(plan)
+        for start, end in ((one, other), (other, one)):
+            if end in reach(good, start):
+                yield plan, start, end, good
+
+
 def at_moment(one, other, thing, moment):
-    """The place of the thing at a moment of a million, all going evenly."""
-    return one[thing] + (other[thing] - one[thing]) * moment // 10 ** 6
+    """The place of the thing at a moment of a million; some hurry at first, some at last, some go evenly."""
+    rest = 10 ** 6 - moment
+    gone = (moment, moment * moment // 10 ** 6, 10 ** 6 - rest * rest // 10 ** 6)[thing % 3]
+    return one[thing] + (other[thing] - one[thing]) * gone // 10 ** 6
 
 
 def turning_rule(one, other, i, leave, j, come):
@@ -181,7 +217,7 @@ def great_pairs(many, seed):
         rules = []
         while len(rules) < 40:
             i, j = dice.sample(range(12), 2)
-            come, leave = sorted(dice.sample(range(1, 10 ** 6), 2))
+            come, leave = sorted(dice.sample(range(10 ** 4, 10 ** 6 - 10 ** 4), 2))
             if k % 2 == 1 and dice.randrange(3) == 0:
                 come, leave = leave, come
             rule = turning_rule(one, other, i, leave, j, come)
