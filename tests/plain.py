@@ -210,7 +210,9 @@ def otherwise(thing, dice):
 
 
 def otherwise_part(part, dice):
-    """Others in the place of a text or a whole number; truths in the place of 0 and 1."""
+    """Others in the place of a text, a whole number or None; truths in the place of 0 and 1."""
+    if part is None:
+        return [0, False, "", (), [], (None,), "None"]
     if isinstance(part, str):
         return [part + " ", part[:-1], part.upper(), part.encode(), "from" if part == "to" else "to", (part,)]
     truths = [bool(part)] if part in (0, 1) else []

@@ -191,6 +191,27 @@ class Language(unittest.TestCase):
             if node.name in ("__str__", "__repr__", "__len__"):
                 self.assertIsInstance(node.body[-1], ast.Return, name)
 
+    def test_finally_holds_plain_assignments_alone(self):
+        simple = (ast.Name, ast.Attribute, ast.Constant)
+        for name, node in nodes(ast.Try):
+            for row in node.finalbody:
+                self.assertIsInstance(row, ast.Assign, name)
+                targets = row.targets[0].elts if isinstance(row.targets[0], ast.Tuple) else row.targets
+                values = row.value.elts if isinstance(row.value, ast.Tuple) else [row.value]
+                self.assertEqual((len(row.targets), len(targets)), (1, len(values)), name)
+                self.assertTrue(all(isinstance(part, simple) for part in [*targets, *values]), name)
+
+    def test_tables_of_functions_are_called_through_a_name(self):
+        for name, node in nodes(ast.Call):
+            self.assertIsInstance(node.func, (ast.Name, ast.Attribute), name)
+
+    def test_calls_of_builtins_have_no_other_keywords(self):
+        allowed = {"sorted": {"key", "reverse"}, "min": {"key", "default"}, "max": {"key", "default"},
+                   "sum": {"start"}, "enumerate": {"start"}, "zip": {"strict"}}
+        for name, node in nodes(ast.Call):
+            if isinstance(node.func, ast.Name) and node.func.id in BUILTINS:
+                self.assertLessEqual({told.arg for told in node.keywords}, allowed.get(node.func.id, set()), name)
+
     def test_handlers_name_error_classes(self):
         for name, node in nodes(ast.ExceptHandler):
             self.assertIsNotNone(node.type, name)

@@ -87,7 +87,7 @@ class Letters(unittest.TestCase):
             for row in rows:
                 told[plainly_letter(row)] += 1
                 self.assertIs(is_letter(row), plainly_letter(row), row)
-            for other in otherwise(letter, dice) if letter[-1] is not None else ():
+            for other in otherwise(letter, dice):
                 told[plainly_letter(other)] += 1
                 self.assertIs(is_letter(other), plainly_letter(other), other)
         self.assertGreater(min(told.values()), 50, told)
